@@ -217,11 +217,12 @@ func TestAbortOfDataThatIsAskedFor(t *testing.T) {
 	x.run()
 	tag := do(t, x.c, api.Command{Kind: api.Write, N: 1, Data: fill(8, 1)})
 	x.c.In(x.s.In(x.c.Out()))
+	other := do(t, x.c, api.Command{Kind: api.Write, N: 1, Data: fill(8, 2)})
 	if !x.c.Abort(tag) {
 		t.Error("P2101: Abort")
 	}
 	x.run()
-	if len(x.did) != 0 || len(x.c.Done()) != 0 || x.c.Closed() {
+	if l := x.c.Done(); len(x.did) != 1 || len(l) != 1 || l[0].Tag != other || x.c.Closed() {
 		t.Error("P2101: it is told no more")
 	}
 }
@@ -259,6 +260,58 @@ func TestBytesThatAreNone(t *testing.T) {
 		t.Error("P2101: bytes that are none")
 	}
 	x.c.In(fill(60, 1))
+}
+
+func TestPDUsThatCannotBe(t *testing.T) {
+	for i, p := range []pdu.PDU{
+		{Op: pdu.DataIn, Tag: 1, Off: 1, Data: fill(1, 1)},
+		{Op: pdu.ReadyTo, Tag: 1, Off: 0, Len: 9},
+		{Op: pdu.ReadyTo, Tag: 1, Off: 9, Len: 0xFFFFFFFF},
+		{Op: pdu.Response, Tag: 1, Status: api.Check, Data: fill(17, 1)},
+	} {
+		x := opened(t)
+		do(t, x.c, api.Command{Kind: api.Write, N: 1, Data: fill(8, 1)})
+		x.c.Out()
+		b, _ := pdu.Encode(p)
+		x.c.In(b)
+		if !x.c.Closed() || x.c.Waiting() != 0 || len(x.c.Out()) != 0 || len(x.c.Done()) != 0 {
+			t.Errorf("P2101: %d: bytes that are none", i)
+		}
+	}
+	for i, p := range []pdu.PDU{
+		{Op: pdu.DataIn, Tag: 9, Off: 1, Data: fill(1, 1)}, {Op: pdu.Response, Tag: 9}, {Op: pdu.LogoutResp}, {Op: pdu.NopIn, Tag: 1}, {Op: pdu.TaskDone, Tag: 1},
+	} {
+		x := opened(t)
+		do(t, x.c, api.Command{Kind: api.Write, N: 1, Data: fill(8, 1)})
+		x.toS = x.c.Out()
+		b, _ := pdu.Encode(p)
+		x.c.In(b)
+		x.run()
+		if x.c.Closed() || len(x.c.Done()) != 1 {
+			t.Errorf("P2101: %d: nothing that it waits for", i)
+		}
+	}
+}
+
+func TestAnswersToALoginThatAreNone(t *testing.T) {
+	good := pdu.PDU{Op: pdu.LoginResp, Final: true, Exp: 1, Max: 16}
+	for i, turn := range []func(p *pdu.PDU){
+		func(p *pdu.PDU) { p.Op = pdu.Response },
+		func(p *pdu.PDU) { p.Status = 2 },
+		func(p *pdu.PDU) { p.Data = []byte("x") },
+		func(p *pdu.PDU) { p.Data = []byte("ImmediateData=?\x00") },
+		func(p *pdu.PDU) {},
+	} {
+		p := good
+		turn(&p)
+		c := New(params())
+		c.Out()
+		b, _ := pdu.Encode(p)
+		c.In(b)
+		if c.Closed() != (i < 4) || c.Open() == c.Closed() {
+			t.Errorf("P2101: %d: Closed: %v", i, c.Closed())
+		}
+	}
 }
 
 func TestWhatWasToldStays(t *testing.T) {

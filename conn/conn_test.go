@@ -101,6 +101,10 @@ func TestHeldWhereNobodyAsks(t *testing.T) {
 		a.Tick()
 		b.Tick()
 		pass(a, b)
+		if b.Up() && i < 100 {
+			pass(b, a)
+			a.Recv()
+		}
 		if b.Held() > 3*Most || a.Held() > 3*Most {
 			t.Fatalf("P1801: %d, %d bytes are kept", a.Held(), b.Held())
 		}

@@ -80,6 +80,7 @@ func TestKinds(t *testing.T) {
 		{api.Command{Kind: api.Compare, At: 4, N: 1, Data: append(fill(1, 3), fill(1, 4)...)}, good},
 		{api.Command{Kind: api.Compare, At: 3, N: 2, Data: append(append(fill(1, 0), 4, 4, 4, 5, 4, 4, 4, 4), fill(2, 9)...)},
 			api.Reply{Status: 2, Key: 14, Code: 0x1D00, Info: 11}},
+		{api.Command{Kind: api.Compare, At: 4, N: 1, Data: fill(2, 9)}, api.Reply{Status: 2, Key: 14, Code: 0x1D00}},
 		{api.Command{Kind: api.Compare, At: 4, N: 1, Data: fill(1, 4)}, illegal(api.CodeField)},
 		{api.Command{Kind: api.Compare, At: 4, N: 1, Data: fill(4, 4)}, illegal(api.CodeField)},
 		{api.Command{Kind: api.Read, At: 4, N: 1}, sense.Good(fill(1, 4))},

@@ -65,6 +65,9 @@ func TestEncodeRefuses(t *testing.T) {
 			t.Errorf("P701: %v: %v", c.p.Op, err)
 		}
 	}
+	if b := must(t, PDU{Flags: 0x7F, Status: 255}); b[1] != 0x7F || b[2] != 255 {
+		t.Errorf("P701: at the bounds: %v", b[:4])
+	}
 	if b := must(t, PDU{Data: long[:api.MaxData]}); len(b) != 56+api.MaxData {
 		t.Errorf("P701: at the bound: %d", len(b))
 	}

@@ -97,6 +97,9 @@ func TestHolder(t *testing.T) {
 	if g, k, typ, err := ParseHolder(Holder(3, 9, 0)); g != 3 || k != 0 || typ != 0 || err != api.OK {
 		t.Errorf("P601: nobody: %d, %x, %d, %v", g, k, typ, err)
 	}
+	if g, k, typ, err := ParseHolder(Holder(3, 7, 1)); g != 3 || k != 7 || typ != 1 || err != api.OK {
+		t.Errorf("P601: type 1: %d, %x, %d, %v", g, k, typ, err)
+	}
 	if g, k, typ, err := ParseHolder(Holder(3, 0, 15)); g != 3 || k != 0 || typ != 15 || err != api.OK {
 		t.Errorf("P601: key 0: %d, %x, %d, %v", g, k, typ, err)
 	}

@@ -178,6 +178,18 @@ func TestAppendAndTrim(t *testing.T) {
 	}
 }
 
+func TestTheLeastRing(t *testing.T) {
+	d := newDisk(3)
+	r, _ := open(t, d, 1, 2, 5, 1, 1)
+	add(t, r, fill(481, 1))
+	if _, err := r.Append(nil); err != api.ErrFull {
+		t.Errorf("P1202: %v", err)
+	}
+	if _, l := open(t, d, 1, 2, 5, 1, 2); len(l) != 1 || len(l[0]) != 481 {
+		t.Errorf("P1202: two sectors: %d", len(l))
+	}
+}
+
 func TestALongRecord(t *testing.T) {
 	d := newDisk(69)
 	r, _ := open(t, d, 0, 69, 0, 0, 0)

@@ -308,6 +308,21 @@ func TestPowerGoes(t *testing.T) {
 	}
 }
 
+func TestTwoLivesThatBreakOff(t *testing.T) {
+	d := formatted(t)
+	for i, picks := range [][]int{{0, 1}, {1, 0}} { // of an entry's two sectors one lasts, then the other one
+		s := open(t, d)
+		d.Arm(3, picks...)
+		if err := s.Append(Entry{1, 1, fill(600, byte(i+1))}); err != api.ErrDown {
+			t.Fatalf("P2202: %v", err)
+		}
+		d.On()
+	}
+	if x := tell(t, open(t, d)); x != (state{}) {
+		t.Errorf("P2202: an entry of two lives: %+v", x)
+	}
+}
+
 func TestPowerGoesInOpen(t *testing.T) {
 	d := formatted(t)
 	s := open(t, d)

@@ -42,6 +42,9 @@ func TestNew(t *testing.T) {
 		}
 	}
 	fresh(t, 256)
+	if s := fresh(t, 1); s.Put(1, Simple) != api.OK || s.Put(2, Simple) != api.ErrFull {
+		t.Error("P1601: a set of one")
+	}
 }
 
 func TestPut(t *testing.T) {

@@ -9,9 +9,9 @@ import (
 )
 
 func TestPairsGoAndCome(t *testing.T) {
-	l := []Pair{{"A", ""}, {"a.B-c+9@_", "x=y"}, {strings.Repeat("k", 63), strings.Repeat("\xff", 255)}}
+	l := []Pair{{"A", ""}, {"a.B-c+9@_AZaz09", "x=y"}, {strings.Repeat("k", 63), strings.Repeat("\xff", 255)}}
 	b, err := Encode(l)
-	want := "A=\x00a.B-c+9@_=x=y\x00" + l[2].Key + "=" + l[2].Value + "\x00"
+	want := "A=\x00a.B-c+9@_AZaz09=x=y\x00" + l[2].Key + "=" + l[2].Value + "\x00"
 	if err != api.OK || string(b) != want {
 		t.Fatalf("P301: Encode: %q, %v", b, err)
 	}
@@ -29,7 +29,7 @@ func TestPairsGoAndCome(t *testing.T) {
 
 func TestEncodeRefuses(t *testing.T) {
 	for i, l := range [][]Pair{
-		{{"", "x"}}, {{strings.Repeat("k", 64), ""}}, {{"a b", ""}}, {{"a=b", ""}}, {{"\xe4", ""}},
+		{{"", "x"}}, {{strings.Repeat("k", 64), ""}}, {{"a b", ""}}, {{"a[", ""}}, {{"a`", ""}}, {{"a{", ""}}, {{"a/", ""}}, {{"a:", ""}}, {{"a=b", ""}}, {{"\xe4", ""}},
 		{{"a", "x\x00"}}, {{"a", strings.Repeat("v", 256)}}, {{"a", "1"}, {"b", "2"}, {"a", "3"}},
 	} {
 		if b, err := Encode(l); err != api.ErrArg || b != nil {
@@ -94,12 +94,12 @@ func TestFind(t *testing.T) {
 }
 
 func TestName(t *testing.T) {
-	for _, s := range []string{"iqn.a", "iqn.2026-11.org.x:disk-0", "iqn." + strings.Repeat("z", 219)} {
+	for _, s := range []string{"iqn.a", "iqn.2026-11.org.x:disk-0", "iqn.az09", "iqn." + strings.Repeat("z", 219)} {
 		if !Name(s) {
 			t.Errorf("P302: %q is a name", s)
 		}
 	}
-	for _, s := range []string{"", "iqn.", "iqn", "iqn.A", "iqn.a_b", "IQN.a", "eui.a", "iqn.a ", "iqn." + strings.Repeat("z", 220)} {
+	for _, s := range []string{"", "iqn.", "iqn", "iqn.A", "iqn.a_b", "iqn.`", "iqn.{", "iqn./", "iqn.;", "IQN.a", "eui.a", "iqn.a ", "iqn." + strings.Repeat("z", 220)} {
 		if Name(s) {
 			t.Errorf("P302: %q is no name", s)
 		}
@@ -107,12 +107,12 @@ func TestName(t *testing.T) {
 }
 
 func TestNumber(t *testing.T) {
-	for s, want := range map[string]int{"0": 0, "7": 7, "999999999": 999999999, "0x0": 0, "0x00fF": 255, "0xFFFFFFF": 0xFFFFFFF} {
+	for s, want := range map[string]int{"0": 0, "7": 7, "999999999": 999999999, "0x0": 0, "0x00fF": 255, "0xaA": 170, "0x9": 9, "0xFFFFFFF": 0xFFFFFFF} {
 		if v, ok := Number(s); v != want || !ok {
 			t.Errorf("P302: %q: %d, %v", s, v, ok)
 		}
 	}
-	for _, s := range []string{"", "00", "01", "1000000000", "-1", "+1", "1a", "a", "0x", "0X1", "0x12345678", "0xg", " 1", "0-", "1:"} {
+	for _, s := range []string{"", "00", "01", "1000000000", "-1", "+1", "1a", "a", "0x", "0X1", "0x12345678", "0xg", "0xG", "0x`", "0x@", "0x/", "0x:", " 1", "0-", "1:"} {
 		if v, ok := Number(s); v != 0 || ok {
 			t.Errorf("P302: %q: %d, %v", s, v, ok)
 		}
