@@ -75,9 +75,6 @@ func (n *Node) beaten(m beat) {
 
 // take puts a beat's entries behind those that are here, and tells up to where both are the same then; false: they do not fit.
 func (n *Node) take(m beat) (uint64, bool) {
-	if m.prev > n.store.Last() {
-		return 0, false
-	}
 	if epoch, ok := n.epochAt(m.prev); m.prev >= n.base && (!ok || epoch != m.prevEpoch) {
 		return 0, false
 	}

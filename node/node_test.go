@@ -353,6 +353,10 @@ func TestHints(t *testing.T) {
 	if h := hint(); h != 1 {
 		t.Errorf("P2401: node 1: %d", h)
 	}
+	n.In(Judge, told(witness.Reg{Epoch: 3, Primary: 0, Members: 3}))
+	if h := hint(); h != 1 {
+		t.Errorf("P2401: an elder register: %d", h)
+	}
 	n.In(Client, told(witness.Reg{Epoch: 5, Primary: 0, Members: 3}))
 	n.In(Peer, told(witness.Reg{Epoch: 5, Primary: 0, Members: 3}))
 	if h := hint(); h != 1 {
@@ -480,5 +484,33 @@ func TestOpenEntriesHaveABound(t *testing.T) {
 	}
 	if p.Broken() || len(p.Commits()) != 0 || len(answers(p)) != 0 {
 		t.Error("P2402: nothing is committed without the other one")
+	}
+}
+
+func TestABackupThatLagsBehind(t *testing.T) {
+	s := newSim(t, 1)
+	for range 60 {
+		s.calm()
+	}
+	p := s.reg().Primary
+	other := s.nodes[1-p]
+	s.nodes[1-p] = nil // it hears nothing, but goes on
+	id := uint64(0)
+	for range 100 {
+		id++
+		c := api.Command{Kind: api.Write, N: 1, Data: bytes.Repeat([]byte{byte(id)}, 8)}
+		s.asked[name{0, id}] = order{0, id, id, c}
+		s.wire = append(s.wire, packet{Client, p, Request(0, id, id, c)})
+		s.calm()
+	}
+	if s.reg().Members != 1<<p || s.nodes[p].base < 60 || !s.got[name{0, 100}] {
+		t.Fatalf("P2401: the others go on: %+v, base %d", s.reg(), s.nodes[p].base)
+	}
+	s.nodes[1-p] = other
+	for range 100 {
+		s.calm()
+	}
+	if s.reg().Members != 3 || other.store.Last() != s.nodes[p].store.Last() {
+		t.Errorf("P2401: it is a member again: %+v", s.reg())
 	}
 }

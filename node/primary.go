@@ -146,10 +146,7 @@ func (n *Node) advance() {
 	l := n.lead
 	to := n.store.Last()
 	if l.tied() {
-		if l.stage != fits {
-			return
-		}
-		to = min(to, l.acked)
+		to = min(to, l.acked) // 0, as long as what the other one has may not fit
 	}
 	n.commitTo(to)
 }
@@ -181,7 +178,8 @@ func (n *Node) stated(m state) {
 		}
 	case handing:
 		if m.sure && m.matched >= l.parts[0].index {
-			l.stage, l.acked, l.sent, l.parts = fits, m.matched, m.matched, nil
+			l.acked = min(m.matched, n.store.Last())
+			l.stage, l.sent, l.parts = fits, l.acked, nil
 		}
 	case fits:
 		if m.sure && m.matched > l.acked {

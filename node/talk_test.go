@@ -2,6 +2,8 @@ package node
 
 import (
 	"bytes"
+	"math"
+	"math/rand"
 	"testing"
 
 	"gemel/api"
@@ -323,6 +325,19 @@ func TestAMemberThatIsBlank(t *testing.T) {
 	if parts == 0 || len(n.Commits()) != 1 {
 		t.Error("P2401: it is handed a snapshot, and the others go on")
 	}
+	k.count++
+	n.In(Peer, state{epoch: 0, talk: k, blank: true}.seal())
+	if len(swaps(n)) != 0 {
+		t.Error("P2402: it has not got the snapshot")
+	}
+	n.In(Peer, state{epoch: 4, talk: k, sure: true}.seal())
+	if l := beats(n); len(l) != 1 || len(l[0].entries) != 1 {
+		t.Errorf("P2401: the entries behind it: %+v", l)
+	}
+	n.In(Peer, state{epoch: 4, talk: k, last: 1, lastEpoch: 3, sure: true, matched: 1}.seal())
+	if l := swaps(n); len(l) != 1 || l[0] != (witness.Reg{Epoch: 5, Primary: 0, Members: 3}) {
+		t.Errorf("P2401: it has all: %+v", l)
+	}
 }
 
 func TestAMemberThatIsSilent(t *testing.T) {
@@ -415,5 +430,47 @@ func TestEveryNodeLooksNowAndThen(t *testing.T) {
 	}
 	if k := asks(opened(t, 1, newDisk(t), 1), false); k < 20 {
 		t.Errorf("P2401: one that knows of no primary asks %d times", k)
+	}
+}
+
+// TestOddTalks brings whole packets that no machine would send: nothing is promised of them but that calls end.
+func TestOddTalks(t *testing.T) {
+	for seed := range int64(40) {
+		r := rand.New(rand.NewSource(seed))
+		number := func() uint64 {
+			return []uint64{0, 1, 2, 3, uint64(r.Intn(9)), 1 << 62, math.MaxUint64 - 1, math.MaxUint64}[r.Intn(3+r.Intn(6))]
+		}
+		d := newDisk(t)
+		n, _ := alone(t, d)
+		if seed%2 == 0 {
+			n = blank(t, 16)
+		}
+		unit := parts(t, 16, 1, 1, talk{})[0].data
+		for range 300 {
+			k := talk{[]uint32{5, 1, 70}[r.Intn(3)], n.talks + uint64(r.Intn(3)) - 1, []uint32{5, 1, 0}[r.Intn(3)], r.Intn(2) == 0}
+			switch r.Intn(6) {
+			case 0:
+				m := beat{epoch: number(), talk: k, prev: number(), prevEpoch: number(), commit: number()}
+				for range r.Intn(3) {
+					e := entry(1, number())
+					e.Data = e.Data[:r.Intn(len(e.Data)+1)]
+					m.entries = append(m.entries, e)
+				}
+				n.In(Peer, m.seal())
+			case 1:
+				n.In(Peer, part{number(), k, number(), number(), len(unit), 0, unit}.seal())
+			case 2:
+				n.In(Peer, state{number(), k, r.Intn(2) == 0, number(), number(), r.Intn(2) == 0, number()}.seal())
+			case 3:
+				p := r.Intn(2)
+				n.In(Judge, told(witness.Reg{Epoch: number(), Primary: p, Members: 1<<p | r.Intn(4)}))
+			case 4:
+				n.In(Client, Request(0, number(), number(), api.Command{Kind: r.Intn(20)}))
+			default:
+				n.Tick()
+			}
+			n.Out()
+			n.Commits()
+		}
 	}
 }
